@@ -1,0 +1,1 @@
+"""Startnow: plans that are decided while they run."""
