@@ -171,3 +171,11 @@ def settle(plan):
             return lines, known, ring
         coming = next_lines(plan, known)
     return lines, known, []
+
+
+def is_keepable(plan):
+    """Return whether no ring comes from a plan: then, and only then, it can be kept.
+
+    Events, bounds and tasks may stand in any order here, and bounds may have the same x and y.
+    """
+    return not settle(plan)[2]

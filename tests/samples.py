@@ -6,7 +6,10 @@ A = (10, ("a", "b", "c"), (("b", "c", 2), ("c", "b", 0)), (("a", "b", 1, 3),))
 D = (10, ("a", "b", "c"), (("b", "c", -1), ("c", "b", 2)), (("a", "b", 1, 3),))
 E = (10, ("a", "b", "c"), (("b", "c", -1), ("c", "b", 2)), (("a", "b", 2, 4),))
 G = (10, ("a", "b"), (("b", "a", -2),), (("a", "b", 1, 3),))
+S = (4, ("a", "b", "c"), (("b", "c", 1), ("c", "b", 0)), (("a", "b", 1, 2),))
+T = (4, ("a", "b", "c"), (("b", "c", 0), ("c", "b", 0)), (("a", "b", 1, 2),))
 EMPTY = (0, (), (), ())
+NONE = (None, None, None)
 CHAIN = (
     20,
     ("a", "b", "c", "d"),
@@ -114,3 +117,29 @@ def limit_plan(number):
     pairs = [(x, y) for x in run for y in run if x != y]
     bounds = [(x, y, max(-100, min(100, run[y] - run[x] + random.randint(0, 8)))) for x, y in random.sample(pairs, 10)]
     return (40, tuple(names), tuple(sorted(bounds)), tuple(sorted(rows.values())))
+
+
+def notice_plan(number):
+    """A small plan in which c is started ahead of the end b, so it may hang on a notice of it.
+
+    The end may be the begin of a further task, and its begin an end as well.
+    """
+    random = Random(number)
+    names = random.sample("abcdefghi", random.randint(3, 5))
+    a, b, c = names[:3]
+    least = random.randint(2, 4)
+    ahead = random.randint(0, least - 1)
+    rows = [(a, b, least, random.randint(least, least + 2))]
+    limits = {(b, c): -ahead, (c, b): ahead + random.randint(0, 1)}
+    for name in names[3:]:
+        if random.random() < 0.6:
+            time = random.randint(1, 3)
+            rows.append((random.choice(names[:3]), name, time, random.randint(time, time + 1)))
+        other = random.choice([one for one in names if one != name])
+        limits[(name, other)] = random.randint(-2, 3)
+        if random.random() < 0.5:
+            limits[(other, name)] = random.randint(-1, 4)
+    if random.random() < 0.4:
+        limits[("go", random.choice(names))] = random.randint(1, 7)
+    bounds = [(x, y, most) for (x, y), most in limits.items()]
+    return (random.randint(5, 8), tuple(sorted(names)), tuple(sorted(bounds)), tuple(sorted(rows)))

@@ -4,23 +4,73 @@ import copy
 import inspect
 import unittest
 
-from startnow import edges, errors, plans, tables
+from startnow import careful, edges, errors, histories, limits, plans, tables
+from startnow.careful import alike, gap, many_runs, parting_run
 from startnow.errors import NotKept
+from startnow.histories import (
+    advice, blame, can_keep, is_history, played, safe, safe_to_wait, startable, wait_until,
+)
+from startnow.limits import barring, least_latest, least_most, least_notice, least_time, most_time
 from startnow.plans import broken, is_plan, is_run, ours
 from startnow.tables import is_paper, is_table, paper, table
-from tests.samples import A, CHAIN, D, E, EMPTY, G, LIMIT, lists_within
+from tests.samples import A, CHAIN, D, E, EMPTY, G, LIMIT, NONE, S, T, lists_within
 
 RUN = (9, 11, 11)
+HISTORY = (2, (0, 2, None))
 
 INTERFACE = {
     plans: {"is_plan": ["value"], "ours": ["plan"], "is_run": ["plan", "value"], "broken": ["plan", "run"]},
     tables: {"table": ["plan"], "is_table": ["plan", "value"], "paper": ["plan"], "is_paper": ["plan", "value"]},
+    histories: {
+        "can_keep": ["plan"], "is_history": ["plan", "value"], "safe": ["plan", "history"],
+        "safe_to_wait": ["plan", "history"], "startable": ["plan", "history"], "advice": ["plan", "history"],
+        "wait_until": ["plan", "history"], "played": ["plan", "times"], "blame": ["plan", "run"],
+    },
+    limits: {
+        "least_most": ["plan", "x", "y"], "most_time": ["plan", "end"], "least_time": ["plan", "end"],
+        "least_latest": ["plan"], "least_notice": ["plan", "end"], "barring": ["plan"],
+    },
+    careful: {
+        "gap": ["plan", "x", "y"], "many_runs": ["plan"], "alike": ["one", "other"], "parting_run": ["one", "other"],
+    },
 }
+# Arguments with which each function answers, by the names of the interface.
+CALLS = [
+    (can_keep, {"plan": A}, True),
+    (is_history, {"plan": A, "value": HISTORY}, True),
+    (safe, {"plan": A, "history": HISTORY}, True),
+    (safe_to_wait, {"plan": A, "history": (4, (0, 2, None))}, False),
+    (startable, {"plan": A, "history": HISTORY}, ["c"]),
+    (advice, {"plan": A, "history": HISTORY}, ["c"]),
+    (wait_until, {"plan": A, "history": HISTORY}, 4),
+    (played, {"plan": A, "times": (3,)}, (0, 3, 3)),
+    (blame, {"plan": A, "run": RUN}, (7, "wait")),
+    (least_most, {"plan": A, "x": "b", "y": "a"}, -1),
+    (least_most, {"plan": A, "x": "a", "y": "b"}, 3),
+    (most_time, {"plan": A, "end": "b"}, 10),
+    (least_time, {"plan": D, "end": "b"}, 2),
+    (least_latest, {"plan": A}, 3),
+    (least_notice, {"plan": E, "end": "b"}, 1),
+    (barring, {"plan": D}, [("b", "c", -1), ("c", "b", 2)]),
+    (gap, {"plan": S, "x": "a", "y": "c"}, (1, 3)),
+    (gap, {"plan": S, "x": "c", "y": "a"}, (-3, -1)),
+    (many_runs, {"plan": T}, 6),
+    (alike, {"one": S, "other": T}, False),
+    (parting_run, {"one": S, "other": T}, (0, 1, 2)),
+]
 
 
 def reason(plan):
     try:
         table(plan)
+    except NotKept as error:
+        return error.reason
+    raise AssertionError("the plan can be kept")
+
+
+def reason_of_played(plan):
+    try:
+        played(plan, tuple(task[2] for task in plan[3]))
     except NotKept as error:
         return error.reason
     raise AssertionError("the plan can be kept")
@@ -53,6 +103,16 @@ class Interface(unittest.TestCase):
         self.assertEqual(is_table(value=[], plan=A), is_table(A, value=[]))
         self.assertEqual(is_paper(plan=D, value=paper(D)), is_paper(D, paper(D)))
         self.assertEqual(is_paper(value=None, plan=D), is_paper(D, value=None))
+        for call, arguments, answer in CALLS:
+            with self.subTest(call=call):
+                self.assertEqual(list(arguments), INTERFACE[inspect.getmodule(call)][call.__name__])
+                self.assertEqual(call(*arguments.values()), answer)
+                self.assertEqual(call(**arguments), answer)
+                self.assertEqual(call(**dict(reversed(arguments.items()))), answer)
+
+    def test_kinds_of_the_answers(self):
+        for call, arguments, answer in CALLS:
+            self.assertIs(type(call(**arguments)), type(answer), call)
 
 
 class NewLists(unittest.TestCase):
@@ -89,6 +149,19 @@ class NewLists(unittest.TestCase):
             self.assert_new(paper, plan)
             self.assert_new(reason, plan)
             self.assertEqual(reason(plan), paper(plan))
+            self.assert_new(reason_of_played, plan)
+            self.assertEqual(reason_of_played(plan), paper(plan))
+
+    def test_startable_and_advice(self):
+        for call in (startable, advice):
+            for plan, history in ((A, (0, NONE)), (A, HISTORY), (A, (1, (0, None, None))), (EMPTY, (0, ()))):
+                self.assert_new(call, plan, history)
+            self.assert_new(call, LIMIT, (0, (None,) * 7))
+        self.assert_new(startable, D, (0, NONE))
+
+    def test_barring(self):
+        for plan in (D, E, G, (0, ("a", "b"), (), (("a", "b", 1, 1),))):
+            self.assert_new(barring, plan)
 
 
 class Arguments(unittest.TestCase):
@@ -109,6 +182,11 @@ class Arguments(unittest.TestCase):
         for value in ([3, 1, 2], [[2], [1]]):
             self.assert_unchanged(is_plan, value)
             self.assert_unchanged(is_run, A, value)
+            self.assert_unchanged(is_history, A, value)
+        for value in ([2, [0, 2, None]], (2, [0, 2, None])):
+            self.assert_unchanged(is_history, A, value)
+        for call, arguments, _ in CALLS:
+            self.assert_unchanged(call, *arguments.values())
 
     def test_a_list_changed_behind_the_call_does_not_matter(self):
         value = table(A)
@@ -126,7 +204,11 @@ class Arguments(unittest.TestCase):
         first = (table(A), paper(D), ours(A), broken(A, RUN))
         for plan in (CHAIN, LIMIT, E, G, EMPTY):
             paper(plan)
+            can_keep(plan)
+            least_latest(plan)
         self.assertEqual((table(A), paper(D), ours(A), broken(A, RUN)), first)
+        for call, arguments, answer in CALLS + CALLS[::-1]:
+            self.assertEqual(call(**arguments), answer)
 
 
 if __name__ == "__main__":

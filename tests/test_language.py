@@ -76,6 +76,13 @@ class Language(unittest.TestCase):
             for name in free:
                 del reached[name]
 
+    def test_all_that_is_imported_is_used(self):
+        for path in FILES:
+            tree = ast.parse(path.read_text())
+            used = {node.id for node in ast.walk(tree) if isinstance(node, ast.Name)}
+            named = {node.name for node in ast.walk(tree) if isinstance(node, ast.alias)}
+            self.assertLessEqual(named, used, path.name)
+
     def test_names_that_are_not_bound_are_builtins_of_the_list(self):
         for path in FILES:
             tree = ast.parse(path.read_text())

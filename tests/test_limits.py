@@ -2,9 +2,14 @@
 
 import unittest
 
+from startnow.careful import alike, gap, many_runs, parting_run
+from startnow.errors import NotKept, NotSafe
+from startnow.histories import advice, blame, can_keep, is_history, played, safe, safe_to_wait, startable, wait_until
+from startnow.limits import barring, least_latest, least_most, least_notice, least_time, most_time
 from startnow.plans import broken, is_plan, is_run, ours
 from startnow.tables import is_paper, is_table, paper, table
 from tests.naive import naive_is_table, naive_table
+from tests.game import Player
 from tests.samples import D, LIMIT, limit_plan, with_part
 
 
@@ -89,6 +94,96 @@ class Limits(unittest.TestCase):
             else:
                 self.assertEqual(table(plan), expected)
                 self.assertTrue(is_table(plan, expected))
+
+    def test_histories(self):
+        kept = 0
+        for number in range(24):
+            plan = limit_plan(number)
+            nothing = (0, (None,) * 7)
+            with self.subTest(plan=plan):
+                self.assertEqual(can_keep(plan), naive_table(plan) is not None)
+                self.assertEqual(safe(plan, nothing), can_keep(plan))
+                run = longest_run(plan)
+                late = (140, run)
+                self.assertTrue(is_history(plan, late))
+                self.assertEqual(safe(plan, late), broken(plan, run) == [])
+                self.assertEqual(safe_to_wait(plan, late), broken(plan, run) == [])
+                self.assertFalse(safe(plan, (140, nothing[1])))
+                if not can_keep(plan):
+                    self.assertEqual(startable(plan, nothing), [])
+                    self.assertRaises(NotSafe, advice, plan, nothing)
+                    self.assertRaises(NotKept, played, plan, tuple(task[2] for task in plan[3]))
+                    self.assertEqual(blame(plan, run), (0, "go"))
+                    continue
+                kept += 1
+                self.assert_played_well(plan)
+        self.assertGreater(kept, 8)
+
+    def assert_played_well(self, plan):
+        """The rule of [8], followed moment by moment, makes the run that played tells."""
+        player = Player(plan)
+        for times in (tuple(task[2] for task in plan[3]), tuple(task[3] for task in plan[3])):
+            history = player.nothing
+            last = wait_until(plan, history)
+            self.assertTrue(safe(plan, (last, history[1])))
+            while None in history[1]:
+                self.assertTrue(safe(plan, history))
+                for event in advice(plan, history):
+                    self.assertEqual(startable(plan, history)[0], event)
+                    history = player.at(history, [event])
+                self.assertEqual(startable(plan, history), [])
+                if None in history[1]:
+                    self.assertTrue(safe_to_wait(plan, history))
+                    now = history[0] + 1
+                    begins = [player.moment(history[1], task[0]) for task in plan[3]]
+                    ends = [
+                        task[1] for task, begin, time in zip(plan[3], begins, times)
+                        if begin is not None and begin + time == now
+                    ]
+                    history = player.at((now, history[1]), ends)
+            self.assertEqual(played(plan, times), history[1])
+            self.assertEqual(broken(plan, history[1]), [])
+            self.assertIsNone(blame(plan, history[1]))
+            self.assertEqual(wait_until(plan, history), 40)
+
+    def test_runs_up_to_moment_140(self):
+        run = (50, 53, 57, 80, 63, 100, 140)
+        self.assertEqual(blame(LIMIT, run)[1], "wait")
+        self.assertLessEqual(blame(LIMIT, run)[0], 8)
+        self.assertTrue(is_history(LIMIT, (140, run)))
+        self.assertFalse(is_history(LIMIT, (139, run)))
+        self.assertFalse(safe(LIMIT, (140, run)))
+
+    def test_changes(self):
+        for number in range(16):
+            plan = limit_plan(number)
+            kept = can_keep(plan)
+            with self.subTest(plan=plan):
+                told = barring(plan)
+                self.assertEqual(told is None, kept)
+                if not kept:
+                    self.assertFalse(can_keep(with_part(plan, (2,), tuple(told))))
+                self.assertEqual(least_latest(plan) is None, not kept)
+                for x, y in (("a", "b"), ("g", "go")):
+                    self.assertEqual(least_most(plan, x, y) is None, not kept)
+                for _, end, least, greatest in plan[3]:
+                    most, shortest, notice = most_time(plan, end), least_time(plan, end), least_notice(plan, end)
+                    self.assertEqual(most is not None and most >= greatest, kept)
+                    self.assertEqual(shortest is not None and shortest <= least, kept)
+                    self.assertEqual(notice == 0, kept)
+
+    def test_what_can_come_about(self):
+        names = ("a", "b", "c", "d")
+        loose = (6, names, (), (("a", "d", 1, 6),))
+        self.assertEqual(many_runs(loose), 49 * 6)
+        self.assertEqual(gap(loose, "a", "d"), (1, 6))
+        self.assertEqual(gap(loose, "b", "c"), (-6, 6))
+        self.assertTrue(alike(loose, with_part(loose, (2,), (("go", "a", 0),))))
+        self.assertEqual(parting_run(loose, with_part(loose, (2,), (("b", "c", 5),))), (0, 0, 6, 1))
+        pairs = [(x, y) for x in ("go",) + names for y in ("go",) + names if x != y]
+        tight = with_part(loose, (2,), tuple(sorted((x, y, 6) for x, y in pairs)))
+        self.assertEqual(len(tight[2]), 20)
+        self.assertTrue(alike(loose, tight))
 
 
 if __name__ == "__main__":
