@@ -1,8 +1,8 @@
 """The runs that can come about by strategies that keep a plan."""
 
 from startnow.errors import InvalidEvent, OtherTasks
-from startnow.histories import unstarted, with_now
-from startnow.plans import is_place, moments_by_place, require_plan
+from startnow.histories import beginning, unstarted, with_now
+from startnow.plans import is_place, moments_by_place, require_plan, same_tasks
 
 
 def is_lost(plan, history):
@@ -66,7 +66,7 @@ def runs_through(plan, history):
 
 def careful_runs(plan):
     """Return the careful runs of a plan, each once."""
-    return runs_through(plan, (0, tuple([None for _ in plan[1]])))
+    return runs_through(plan, beginning(plan))
 
 
 def gap(plan, x, y):
@@ -89,7 +89,7 @@ def parting_run(one, other):
     """Return the least run that is careful for just one of two plans, or None."""
     require_plan(one)
     require_plan(other)
-    if one[1] != other[1] or one[3] != other[3]:
+    if not same_tasks(one, other):
         raise OtherTasks()
     mine = {run: True for run in careful_runs(one)}
     theirs = {run: True for run in careful_runs(other)}

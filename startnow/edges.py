@@ -90,7 +90,10 @@ def first_lines(plan):
 
 def sum_lines(known):
     """Return the lines of the news that come by "sum" from known edges."""
-    starting = {name: [] for key in known for name in key[:2]}
+    starting = {}
+    for x, y, _ in known:
+        starting[x] = []
+        starting[y] = []
     for edge, place in known.values():
         starting[edge[0]].append((edge, place))
     lines = []

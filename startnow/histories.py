@@ -44,6 +44,11 @@ def require_history(plan, history):
         raise InvalidHistory()
 
 
+def beginning(plan):
+    """Return the history at the moment 0, of which nothing has happened."""
+    return (0, tuple([None for _ in plan[1]]))
+
+
 def with_now(plan, history, events):
     """Return the history in which some further events happen now."""
     now, moments = history
@@ -181,7 +186,7 @@ def played(plan, times):
     reason = paper(plan)
     if reason is not None:
         raise NotKept(reason)
-    moments = tuple([None for _ in plan[1]])
+    _, moments = beginning(plan)
     for now in range(plan[0] + 1):
         _, moments = behind_moment(plan, times, (now, moments))
     return moments

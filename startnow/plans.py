@@ -38,12 +38,19 @@ def are_events(value):
     return isinstance(value, tuple) and all([is_name(name) for name in value]) and ascends(value)
 
 
+def is_pair(events, value):
+    """Return whether a value is a tuple of two unlike ones of the events and "go"."""
+    if not isinstance(value, tuple) or len(value) != 2:
+        return False
+    x, y = value
+    return is_place(events, x) and is_place(events, y) and x != y
+
+
 def is_bound(events, value):
     """Return whether a value can be a bound between the events and "go"."""
     if not isinstance(value, tuple) or len(value) != 3:
         return False
-    x, y, most = value
-    return is_place(events, x) and is_place(events, y) and x != y and is_integer(most)
+    return is_pair(events, value[:2]) and is_integer(value[2])
 
 
 def are_bounds(events, value):
@@ -111,6 +118,11 @@ def ours(plan):
     require_plan(plan)
     ends = {task[1]: True for task in plan[3]}
     return [event for event in plan[1] if event not in ends]
+
+
+def same_tasks(one, other):
+    """Return whether two plans have the same events and the same tasks."""
+    return one[1] == other[1] and one[3] == other[3]
 
 
 def moments_by_place(plan, run):

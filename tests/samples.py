@@ -32,6 +32,13 @@ class Bare:
     """A value of no kind that the program knows."""
 
 
+class Equal:
+    """A value that says that it equals everything."""
+
+    def __eq__(self, other):
+        return True
+
+
 OTHERS = [
     None, True, False, 0, 1, -1, 7, 2 ** 70, 0.0, 1.5, float("nan"), 1j, "", "a", "go", "abc", b"", b"ab",
     (), (1,), (None,), ("a",), ((),), ((), ()), ((), (), (), ()), (0, (), ()), (0, 1, 2, 3), [], [1], [[]], [()],
